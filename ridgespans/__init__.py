@@ -1,0 +1,1 @@
+"""Ridgespans: rows that are shifted and laid over one another."""

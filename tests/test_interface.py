@@ -1,0 +1,84 @@
+"""What the document's interface lists, and what can be counted of the language's rules."""
+
+import ast
+import importlib
+import inspect
+import pathlib
+import unittest
+
+import ridgespans
+
+FUNCTIONS = {
+    "rows": {
+        "lot_error": ["value"], "table_error": ["value"], "is_row": ["places", "value"],
+        "is_side": ["places", "value"], "shifted": ["side", "number"],
+        "laid": ["one_side", "other_side"], "begun": ["row"],
+        "is_higher": ["one_side", "other_side"], "led": ["table", "side"],
+    },
+    "texts": {"lot_text": ["lot"], "parse_lot": ["value"]},
+}
+
+FOLDER = pathlib.Path(ridgespans.__file__).parent
+
+
+class Interface(unittest.TestCase):
+    def test_each_function_is_defined_in_its_file_with_its_arguments(self):
+        for name, functions in FUNCTIONS.items():
+            module = importlib.import_module(f"ridgespans.{name}")
+            for function, arguments in functions.items():
+                with self.subTest(f"{name}.{function}"):
+                    self.check_function(getattr(module, function), module, arguments)
+
+    def check_function(self, function, module, arguments):
+        self.assertEqual(function.__module__, module.__name__)
+        parameters = inspect.signature(function).parameters.values()
+        self.assertEqual([parameter.name for parameter in parameters], arguments)
+        for parameter in parameters:
+            self.assertEqual(parameter.kind, inspect.Parameter.POSITIONAL_OR_KEYWORD)
+            self.assertIs(parameter.default, inspect.Parameter.empty)
+
+
+class Files(unittest.TestCase):
+    def files(self):
+        for path in sorted(FOLDER.glob("*.py")):
+            with self.subTest(path.name):
+                yield path.read_text(encoding="utf-8")
+
+    def test_the_folder_holds_python_files_alone(self):
+        for path in FOLDER.iterdir():
+            self.assertTrue(path.suffix == ".py" or path.name == "__pycache__", path.name)
+        self.assertTrue((FOLDER / "__init__.py").is_file())
+
+    def test_signs_and_sizes(self):
+        for text in self.files():
+            self.assertTrue(text.isascii())
+            self.assertNotIn("\t", text)
+            self.assertLessEqual(len(text.splitlines()), 399)
+            self.assertLessEqual(max(map(len, text.splitlines())), 120)
+
+    def test_sizes_of_functions(self):
+        for text in self.files():
+            for node in ast.walk(ast.parse(text)):
+                if isinstance(node, ast.FunctionDef):
+                    self.assertLessEqual(node.end_lineno - node.lineno + 1, 40, node.name)
+
+    def test_imports_name_the_file_that_defines_the_name(self):
+        for text in self.files():
+            for node in ast.walk(ast.parse(text)):
+                self.assertNotIsInstance(node, ast.Import)
+                if isinstance(node, ast.ImportFrom):
+                    self.check_import(node)
+
+    def check_import(self, node):
+        self.assertEqual((node.level, node.module.split(".")[0]), (0, "ridgespans"))
+        tree = ast.parse((FOLDER / f"{node.module.split('.')[1]}.py").read_text(encoding="utf-8"))
+        defined = [part.name for part in tree.body if hasattr(part, "name")]
+        for part in tree.body:
+            if isinstance(part, ast.Assign):
+                defined.append(part.targets[0].id)
+        for alias in node.names:
+            self.assertIn(alias.name, defined)
+
+
+if __name__ == "__main__":
+    unittest.main()
