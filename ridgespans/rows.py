@@ -21,9 +21,7 @@ def is_row(places, value):
 
 def is_side(places, value):
     """Return whether the value is a side of so many places, within MAX_NUMBER."""
-    if not isinstance(value, tuple) or len(value) != places:
-        return False
-    return all([is_bounded(item) for item in value])
+    return is_any_side(places, value) and all([is_bounded(item) for item in value])
 
 
 def shifted(side, number):
@@ -117,6 +115,28 @@ def is_above(one, other):
 def greatest_sum(one_side, other_side):
     """Return the greatest of the sums of both sides, place by place."""
     return greatest([added(one, other) for one, other in zip(one_side, other_side)])
+
+
+def is_any_side(places, value):
+    """Return whether the value is a side of so many places, with integers of any size."""
+    if not isinstance(value, tuple) or len(value) != places:
+        return False
+    return all([item is None or is_whole(item) for item in value])
+
+
+def ascending(sides):
+    """Return the list of the sides in order, none standing below all integers."""
+    return sorted(sides, key=place_in_order)
+
+
+def place_in_order(side):
+    """Return what Python puts in order as the document does the side."""
+    return [(0, 0) if number is None else (1, number) for number in side]
+
+
+def unit_side(places, at):
+    """Return the side that has 0 at the one place, none at all others."""
+    return tuple([0 if place == at else None for place in range(places)])
 
 
 def ask_as_many(one_places, other_places):

@@ -19,6 +19,49 @@ EXAMPLES = {
     >>> parse_lot("2\n0 .\n. .")
     raises BadText(2)
 ''',
+    "B4": r'''
+    >>> from ridgespans.spans import alike, fewest_of, gap, highest_below, is_in, joined, least_lot, parting, shifts_of, spread, within
+    >>> L = (3, ((0, 2, None), (0, 0, 0), (None, 1, 3)))
+    >>> [shifts_of(L, (1, 2, 3)), highest_below(L, (1, 2, 3)), is_in(L, (1, 2, 3)), is_in(L, (0, 0, 5)), highest_below(L, (0, 0, 5)), fewest_of(L, (1, 3, 5)), highest_below(L, (5, None, None))]
+    [(0, 1, 0), (1, 2, 3), True, False, (0, 0, 2), (0, 2), None]
+    >>> [least_lot((2, ((0, 0), (1, 4), (3, 5), (None, 7)))), within((2, ((2, 2),)), (2, ((0, 0), (0, 3)))), within((2, ((2, 0),)), (2, ((0, 0), (0, 3)))), alike((2, ((0, 0), (0, 3), (5, 6))), (2, ((4, 7), (1, 1)))), parting(L, (3, ((0, 0, 0),))), spread((0, 2, 5), (1, 1, 1)), gap((3, ((0, 0, 0),)), (0, 2, 5))]
+    [(2, ((None, 0), (0, 0))), True, False, True, (None, 0, 2), 5, 5]
+''',
+    "C6": r'''
+    >>> from ridgespans.cuts import all_keeping, common, cut_off, cut_off_holds, cuts_for_holds, idle_cuts, is_cut, is_kept, keeps, parted_by
+    >>> E = (2, ((0, 0), (0, 3)))
+    >>> c, d = ((0, None), (None, 0)), ((None, -3), (0, None))
+    >>> [is_cut(2, c), is_cut(2, ((0, None), (None,))), keeps(c, (2, 2)), keeps(c, (3, 2)), keeps(c, (None, 5)), keeps(c, (5, None)), is_kept(d, E), is_kept(((None, -2), (0, None)), E)]
+    [True, False, True, False, True, False, True, False]
+    >>> [cut_off(E, (1, 2)), cut_off_holds(E, (0, 5), d), cut_off_holds(E, (0, 5), ((None, -4), (0, None))), cut_off_holds(E, (0, 5), ((None, -2), (0, None))), cut_off_holds(E, (0, 2), d)]
+    [None, True, True, False, False]
+    >>> L = (3, ((0, 2, None), (0, 0, 0), (None, 1, 3)))
+    >>> [cut_off_holds(L, (0, 0, 5), ((None, None, -2), (0, 0, None))), cut_off_holds(L, (5, None, None), ((0, None, None), (None, 0, 0)))]
+    [True, True]
+    >>> [all_keeping(2, (((0, None), (None, 1)),)), all_keeping(2, (c, d)), all_keeping(2, ()), all_keeping(2, (((0, 0), (None, None)),))]
+    [(2, ((None, 0), (0, -1))), (2, ((0, 0), (0, 3))), (2, ((None, 0), (0, None))), (2, ())]
+    >>> [parted_by(2, (c,), ((0, None), (None, -1))), parted_by(2, (c,), ((0, None), (None, 4))), idle_cuts(2, (c, ((0, None), (None, 4)), d)), idle_cuts(2, (c, c))]
+    [(0, 0), None, (1,), (0, 1)]
+    >>> [common(E, (2, ((0, 2), (0, 7)))), common((2, ((0, 0),)), (2, ((0, 1),))), cuts_for_holds(E, (c, d)), cuts_for_holds(E, (c,))]
+    [(2, ((0, 2), (0, 3))), (2, ()), True, False]
+''',
+    "D7": r'''
+    >>> from ridgespans.bends import apart, by_corners, corners, filled, height, higher_at, is_bend, is_under, often, over, put_in, reaching, shared, slid, sum_of, taken_out
+    >>> from ridgespans.fitting import leanest, lot_of, told_by, untold
+    >>> K, H = (0, 1, None, -3), (0, None, 1)
+    >>> [is_bend(K), is_bend((None, None)), [height(K, at) for at in ((0, 1), (-1, 1), (1, 2), (2, 1))], reaching(K, (2, 1)), reaching(K, (5, 2))]
+    [True, False, [(1, 1), (0, 1), (3, 2), (3, 1)], (1, 3), (3,)]
+    >>> [filled(K), filled(H), filled((None, 4, None)), corners(K), corners(H), by_corners(0, 0, (((-1, 1), 1), ((2, 1), 2)))]
+    [(0, 1, -1, -3), (0, 0, 1), (None, 4), (((-1, 1), 1), ((2, 1), 2)), (((-1, 2), 2),), (0, 1, -1, -3)]
+    >>> by_corners(0, 0, (((1, 1), 1), ((3, 2), 3)))
+    raises BadCorners(1)
+    >>> [over(K, (None, 2)), sum_of((0, 1), H), put_in(H, (2, 0)), slid(K, 1), often((0, 1), 2)]
+    [(0, 2, -1, -3), (0, 1, 1, 2), (5, 3, 1), (0, 2, 1, 0), (0, 1, 2)]
+    >>> [apart(H, (0, 0, 1)), is_under(H, (0, 0, 1)), is_under((0, 1), H), higher_at(H, (0, 0, 1)), taken_out((0, 1, 1, 2), (0, 1)), taken_out((0, 1, 1, 2), (0, 0)), shared((0, 1, 1, 2), (None, 5, 6))]
+    [None, True, False, None, (0, 0, 1), None, (0, 1)]
+    >>> [lot_of((0, 2), 2), told_by((0, 2), (0, 1), 2), untold((0, 2), (0, 1), 2), leanest((0, 2), (0, 1), 2), untold((0, 1, 2), (0, 2, 3), 5), leanest((0, 1, 2), (0, 2, 3), 5)]
+    [(2, ((0, 0), (0, 2), (0, 4))), (0, -1, -3), (), (0, -1), (1,), None]
+''',
 }
 
 

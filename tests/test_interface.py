@@ -1,6 +1,7 @@
 """What the document's interface lists, and what can be counted of the language's rules."""
 
 import ast
+import builtins
 import importlib
 import inspect
 import pathlib
@@ -16,7 +17,35 @@ FUNCTIONS = {
         "is_higher": ["one_side", "other_side"], "led": ["table", "side"],
     },
     "texts": {"lot_text": ["lot"], "parse_lot": ["value"]},
+    "spans": {
+        "shifts_of": ["lot", "row"], "highest_below": ["lot", "row"], "is_in": ["lot", "row"],
+        "fewest_of": ["lot", "row"], "least_lot": ["lot"], "joined": ["one", "other"],
+        "within": ["one", "other"], "alike": ["one", "other"], "parting": ["one", "other"],
+        "spread": ["one_row", "other_row"], "gap": ["lot", "row"],
+    },
+    "cuts": {
+        "is_cut": ["places", "value"], "keeps": ["cut", "row"], "is_kept": ["cut", "lot"],
+        "cut_off": ["lot", "row"], "cut_off_holds": ["lot", "row", "value"],
+        "all_keeping": ["places", "cuts"], "parted_by": ["places", "cuts", "cut"],
+        "idle_cuts": ["places", "cuts"], "common": ["one", "other"], "cuts_for": ["lot"],
+        "cuts_for_holds": ["lot", "value"],
+    },
+    "bends": {
+        "is_bend": ["value"], "height": ["bend", "at"], "reaching": ["bend", "at"], "filled": ["bend"],
+        "corners": ["bend"], "by_corners": ["low", "top", "pairs"], "over": ["one_bend", "other_bend"],
+        "sum_of": ["one_bend", "other_bend"], "put_in": ["one_bend", "other_bend"],
+        "slid": ["bend", "by"], "often": ["bend", "times"], "apart": ["one_bend", "other_bend"],
+        "is_under": ["one_bend", "other_bend"], "higher_at": ["one_bend", "other_bend"],
+        "taken_out": ["one_bend", "other_bend"], "shared": ["one_bend", "other_bend"],
+    },
+    "fitting": {
+        "lot_of": ["points", "most"], "told_by": ["points", "wanted", "most"],
+        "untold": ["points", "wanted", "most"], "leanest": ["points", "wanted", "most"],
+    },
 }
+
+# What the language's rules let be imported from beside the package.
+LIBRARY = {"math": {"gcd", "lcm", "isqrt"}}
 
 FOLDER = pathlib.Path(ridgespans.__file__).parent
 
@@ -70,6 +99,9 @@ class Files(unittest.TestCase):
                     self.check_import(node)
 
     def check_import(self, node):
+        if node.module in LIBRARY:
+            self.assertLessEqual({alias.name for alias in node.names}, LIBRARY[node.module])
+            return
         self.assertEqual((node.level, node.module.split(".")[0]), (0, "ridgespans"))
         tree = ast.parse((FOLDER / f"{node.module.split('.')[1]}.py").read_text(encoding="utf-8"))
         defined = [part.name for part in tree.body if hasattr(part, "name")]
@@ -78,6 +110,19 @@ class Files(unittest.TestCase):
                 defined.append(part.targets[0].id)
         for alias in node.names:
             self.assertIn(alias.name, defined)
+
+    def test_no_local_name_is_that_of_an_import_or_of_a_function_of_its_file(self):
+        for text in self.files():
+            tree = ast.parse(text)
+            taken = {alias.name for node in tree.body if isinstance(node, ast.ImportFrom) for alias in node.names}
+            taken |= {node.name for node in tree.body if isinstance(node, (ast.FunctionDef, ast.ClassDef))}
+            local = {node.arg for node in ast.walk(tree) if isinstance(node, ast.arg)}
+            for part in tree.body:
+                if isinstance(part, ast.FunctionDef):
+                    local |= {node.id for node in ast.walk(part)
+                              if isinstance(node, ast.Name) and isinstance(node.ctx, ast.Store)}
+            self.assertEqual(local & taken, set())
+            self.assertEqual((local | taken) & set(dir(builtins)), set())
 
 
 if __name__ == "__main__":
