@@ -49,7 +49,7 @@ def cut_off_holds(lot, row, value):
 def all_keeping(places, cuts):
     """Return the least lot of all rows of so many places that keep all cuts."""
     ask_most(cuts, MAX_CUTS)
-    return (places, tuple(ascending(keeping_all(unit_rows(places), cuts))))
+    return lot_keeping(places, cuts)
 
 
 def parted_by(places, cuts, cut):
@@ -140,6 +140,11 @@ def unit_rows(places):
     return [unit_side(places, place) for place in range(places)]
 
 
+def lot_keeping(places, cuts):
+    """Return the least lot of all rows that keep the cuts, however many these are."""
+    return (places, tuple(ascending(keeping_all(unit_rows(places), cuts))))
+
+
 def keeping_all(rows, cuts):
     """Return begun rows, none needless, from which come just the rows of the span that keep all cuts."""
     for cut in cuts:
@@ -167,8 +172,12 @@ def mixed_row(cut, stays, goes):
 def alike_cuts(places):
     """Return the cuts that tuples keep whose first half of so many places is their second half, too."""
     units = unit_rows(2 * places)
-    forth = [(units[place], units[places + place]) for place in range(places)]
-    return forth + [(right, left) for left, right in forth]
+    return both_ways([(units[place], units[places + place]) for place in range(places)])
+
+
+def both_ways(cuts):
+    """Return the list of the cuts and of those with both sides changed about: what keeps all makes them alike."""
+    return cuts + [(right, left) for left, right in cuts]
 
 
 def least_rights(rows, place, places):

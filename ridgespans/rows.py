@@ -1,7 +1,7 @@
 """Numbers, sides, rows, lots and tables: what is one, and what comes of them."""
 
 from ridgespans.bounds import MAX_LINES, MAX_LOT, MAX_NUMBER, MAX_PLACES
-from ridgespans.errors import Unfit
+from ridgespans.errors import NotSquare, Unfit
 
 
 def lot_error(value):
@@ -71,6 +71,26 @@ def form_error(value, words, most, is_part):
 def is_whole(value):
     """Return whether the value is an integer, which True and False are not."""
     return isinstance(value, int) and not isinstance(value, bool)
+
+
+def is_index(value, below):
+    """Return whether the value is an integer from 0 to one less than below."""
+    return is_whole(value) and 0 <= value < below
+
+
+def are_indices(value, below):
+    """Return whether the value is a tuple of integers from 0 to one less than below."""
+    return isinstance(value, tuple) and all([is_index(item, below) for item in value])
+
+
+def are_ascending(value, below):
+    """Return whether the value is an ascending tuple of such integers."""
+    return are_indices(value, below) and all([one < other for one, other in zip(value, value[1:])])
+
+
+def are_integers(value, many):
+    """Return whether the value is a tuple of so many integers."""
+    return isinstance(value, tuple) and len(value) == many and all([is_whole(item) for item in value])
 
 
 def is_places(value):
@@ -143,3 +163,9 @@ def ask_as_many(one_places, other_places):
     """Raise Unfit if what is taken together has not as many places."""
     if one_places != other_places:
         raise Unfit()
+
+
+def ask_square(table):
+    """Raise NotSquare if the table has not as many lines as places."""
+    if len(table[1]) != table[0]:
+        raise NotSquare()

@@ -112,6 +112,9 @@ class Dice:
     def cut(self, places, bound, nones=0.3):
         return (self.side(places, bound, nones + 0.2), self.side(places, bound, nones))
 
+    def table(self, places, many, bound, nones=0.3):
+        return (places, tuple(self.side(places, bound, nones) for _ in range(many)))
+
     def cuts(self, places, many, bound, nones=0.3):
         return tuple(self.cut(places, bound, nones) for _ in range(many))
 

@@ -62,6 +62,60 @@ EXAMPLES = {
     >>> [lot_of((0, 2), 2), told_by((0, 2), (0, 1), 2), untold((0, 2), (0, 1), 2), leanest((0, 2), (0, 1), 2), untold((0, 1, 2), (0, 2, 3), 5), leanest((0, 1, 2), (0, 2, 3), 5)]
     [(2, ((0, 0), (0, 2), (0, 4))), (0, -1, -3), (), (0, -1), (1,), None]
 ''',
+    "E6": r'''
+    >>> from ridgespans.squares import balance, balance_holds, choices, even_odd, heaviest, prices, prices_hold, rank, rank_square, square_of, standing, standing_holds, weight_of
+    >>> S, T = (2, ((0, 0), (0, -1))), (2, ((3, 1), (2, 0)))
+    >>> B = (3, ((0, None, None), (5, None, None), (1, 2, 3)))
+    >>> [weight_of(S, (0, 1)), heaviest(S), choices(S), even_odd(S), heaviest(T), choices(T), even_odd(T), heaviest(B), choices(B), even_odd((1, ((7,),)))]
+    [-1, 0, ((1, 0),), (-1, 0), 3, ((0, 1), (1, 0)), (3, 3), None, (), (7, None)]
+    >>> [prices_hold(S, ("prices", (0, 0), (0, 0))), prices_hold(S, ("prices", (1, 0), (0, 0))), prices_hold(B, ("block", (0, 1), (1, 2))), prices_hold(B, ("block", (0, 1), (2,))), prices(S)[0], prices(B)[0]]
+    [True, False, True, False, 'prices', 'block']
+    >>> [standing_holds(S, ("only", 2, (1, 0), (0, -1))), standing_holds(S, ("only", 1, (1, 0), (0, 0))), standing(S)[0], standing(T) in (("more", (0, 1), (1, 0)), ("more", (1, 0), (0, 1))), standing(B)[0]]
+    [True, False, 'only', True, 'block']
+    >>> [balance_holds(T, ((0, None), (None, 1))), balance_holds(T, ((0, 0), (None, 1))), balance(S), balance_holds(B, balance(B)), balance_holds(B, ((0, None, None), (None, -5, None)))]
+    [True, False, None, True, True]
+    >>> C = (3, ((0, 0, 0), (0, 1, 2), (0, 2, 4)))
+    >>> [heaviest(C), rank(C), rank((3, ((0, 0, 0), (1, 1, 1)))), rank_square((3, ((0, 0, 0), (1, 1, 1)))), rank_square((2, ((None, 0), (0, 0)))), square_of(C, (0, 2), (1, 2)), rank((2, ((None, None),))), rank((2, ()))]
+    [5, 3, 1, ((0,), (0,)), ((0, 1), (0, 1)), (2, ((0, 0), (2, 4))), 0, 0]
+    >>> heaviest((2, ((0, 0),)))
+    raises NotSquare()
+''',
+    "F5": r'''
+    >>> from ridgespans.rounds import above, best_round, calm, is_round, mean, props, props_hold, rest_numbers, rests, ways
+    >>> T, V = (2, ((1, 3), (0, None))), (2, ((1, None), (2, 0)))
+    >>> [is_round(T, (0, 1)), is_round(T, (1,)), is_round(T, (1, 0)), mean(T), best_round(T), mean(V), best_round(V), mean((1, ((None,),)))]
+    [True, False, True, (3, 2), (0, 1), (1, 1), (0,), None]
+    >>> [props_hold(T, (3, 2), (3, 0)), props_hold(T, (3, 2), (4, 0)), props(T, (1, 1)), above(T, (1, 1)), above(T, (3, 2)), props_hold(T, (2, 1), props(T, (2, 1)))]
+    [True, False, None, (0, 1), None, True]
+    >>> [ways(V, 1), ways(V, 4), calm(V, 1), calm(V, 0), rests(V, 1), rests(V, 0), rest_numbers(V), rests(T, 1), rest_numbers(T)]
+    [(2, ((0, None), (1, 0))), (2, ((0, None), (-2, 0))), (2, ((None, 0), (0, 1))), (2, ((None, 0),)), (2, ((0, 1),)), (2, ((None, 0),)), (0, 1), (2, ()), ()]
+    >>> ways(T, 1)
+    raises Above((0, 1))
+''',
+    "G3": r'''
+    >>> from ridgespans.doubles import equal_solutions, filled_places, plan, plan_holds, shown, shown_holds, solutions, solves
+    >>> P, Q = (2, ((0, None), (None, 3))), (2, ((None, 2), (1, None)))
+    >>> [solves(P, Q, (5, 3)), solves(P, Q, (5, None)), solutions(P, Q), filled_places(P, Q), plan(P, Q), shown_holds(P, Q, 1, ("row", (0, -2)))]
+    [True, False, (2, ((0, -2),)), (0, 1), (), True]
+    >>> S = (2, ((None, 1), (1, None)))
+    >>> [solutions(P, S), filled_places(P, S), plan(P, S), shown(P, S, 0), plan_holds(P, S, ((0, 0),)), plan_holds(P, Q, ((0, 0), (1, 1)))]
+    [(2, ()), (), ((0, 0), (1, 1)), ('plan', ((0, 0), (1, 1))), False, False]
+    >>> [solutions((3, ((0, None, None),)), (3, ((None, 0, 0),))), equal_solutions((2, ((0, 0),)), (2, ((1, None),)))]
+    [(3, ((None, None, 0), (None, 0, None), (0, None, 0), (0, 0, None))), (2, ((0, 1),))]
+    >>> [filled_places((2, ((0, None),)), (2, ((None, None),))), plan((2, ((0, None),)), (2, ((None, None),))), solutions((2, ()), (2, ()))]
+    [(1,), ((0, 0),), (2, ((None, 0), (0, None)))]
+''',
+    "H3": r'''
+    >>> from ridgespans.games import best_high, best_low, game_error, is_best_high, is_best_low, line_worths, mean_from, worths
+    >>> G = ((2, ((0, None), (1, 0))), (2, ((2, None), (0, 1))))
+    >>> [game_error(G), worths(G), line_worths(G), best_low(G), best_high(G), is_best_low(G, (0, 1)), is_best_high(G, (0, 0))]
+    [None, ((1, 1), (1, 1)), ((1, 1), (1, 1)), (1, 1), (0, 1), False, False]
+    >>> [mean_from(G, (0, 1), (0, 0)), mean_from(G, (1, 1), (0, 0)), mean_from(G, (1, 1), (0, 1))]
+    [((2, 1), (2, 1)), ((-1, 1), (-1, 1)), ((1, 1), (1, 1))]
+    >>> F = ((2, ((0, None), (None, 0))), (2, ((None, 1), (2, None))))
+    >>> [worths(F), game_error((G[0], (2, ((2, None), (None, None))))), game_error((G[0], (2, ((0, 0),)))), game_error([G[0], G[1]])]
+    [((3, 2), (3, 2)), (1, 'line'), (None, 'unlike'), (None, 'game')]
+''',
 }
 
 

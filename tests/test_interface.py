@@ -42,6 +42,27 @@ FUNCTIONS = {
         "lot_of": ["points", "most"], "told_by": ["points", "wanted", "most"],
         "untold": ["points", "wanted", "most"], "leanest": ["points", "wanted", "most"],
     },
+    "squares": {
+        "weight_of": ["table", "choice"], "heaviest": ["table"], "choices": ["table"], "even_odd": ["table"],
+        "prices": ["table"], "prices_hold": ["table", "value"], "standing": ["table"],
+        "standing_holds": ["table", "value"], "balance": ["table"], "balance_holds": ["table", "value"],
+        "square_of": ["table", "lines", "places"], "rank": ["table"], "rank_square": ["table"],
+    },
+    "rounds": {
+        "is_round": ["table", "value"], "mean": ["table"], "best_round": ["table"], "props": ["table", "bound"],
+        "props_hold": ["table", "bound", "value"], "above": ["table", "bound"], "ways": ["table", "number"],
+        "calm": ["table", "number"], "rests": ["table", "number"], "rest_numbers": ["table"],
+    },
+    "doubles": {
+        "solves": ["left", "right", "row"], "solutions": ["left", "right"], "equal_solutions": ["left", "right"],
+        "filled_places": ["left", "right"], "plan": ["left", "right"], "plan_holds": ["left", "right", "value"],
+        "shown": ["left", "right", "place"], "shown_holds": ["left", "right", "place", "value"],
+    },
+    "games": {
+        "game_error": ["value"], "mean_from": ["game", "low", "high"], "worths": ["game"], "line_worths": ["game"],
+        "best_low": ["game"], "best_high": ["game"], "is_best_low": ["game", "value"],
+        "is_best_high": ["game", "value"],
+    },
 }
 
 # What the language's rules let be imported from beside the package.
