@@ -18,7 +18,8 @@ S = (2, ((None, 1), (1, None)))
 
 def pair_of(seed, places, lines, bound, nones):
     dice = Dice(seed)
-    return dice.table(places, lines, bound, nones), dice.table(places, lines, bound, dice.random.choice((0.2, 0.5, 0.8)))
+    left = dice.table(places, lines, bound, nones)
+    return left, dice.table(places, lines, bound, dice.random.choice((0.2, 0.5, 0.8)))
 
 
 # Pairs of tables of one to four places with 0 to 6 lines.

@@ -116,6 +116,55 @@ EXAMPLES = {
     >>> [worths(F), game_error((G[0], (2, ((2, None), (None, None))))), game_error((G[0], (2, ((0, 0),)))), game_error([G[0], G[1]])]
     [((3, 2), (3, 2)), (1, 'line'), (None, 'unlike'), (None, 'game')]
 ''',
+    "I4": r'''
+    >>> from ridgespans.wishes import highest_to, is_cover, is_met, least_covers, least_to, missed, off
+    >>> W, X = (3, ((0, 2, None), (1, 0, None), (None, 3, None))), (2, ((0, 0),))
+    >>> [highest_to(W, (2, 1, 3)), is_met(W, (2, 1, 3)), missed(W, (2, 1, 3)), highest_to(W, (0, 1, 5)), missed(W, (0, 1, 5)), off(W, (0, 1, 5)), off(W, (2, 1, 3))]
+    [(0, 0, None), True, (), (0, -2, None), (2,), 2, 0]
+    >>> [least_covers(W, (2, 1, 3)), least_covers(X, (5,)), least_to(X, (5,)), least_to(W, (0, 1, 5)), is_cover(X, (5,), (0, 1)), is_cover(W, (2, 1, 3), (1,))]
+    [((0, 1),), ((0,), (1,)), ((None, 5), (5, None)), (), True, False]
+    >>> [highest_to(W, (None, 1, 3)), missed(W, (None, 1, 3)), off(W, (None, 1, 3)), least_covers(W, (None, None, None)), least_to((1, ()), ())]
+    [(None, None, None), (1, 2), None, ((),), ((None,),)]
+    >>> highest_to(X, (5, 5))
+    raises Unfit()
+''',
+    "K5": r'''
+    >>> from ridgespans.beats import beat, best_walk, entry_at, first_at_least, growth, lasting, led_often, power
+    >>> from ridgespans.beats import walk_holds, whole_beat
+    >>> W = (2, ((3, -5), (-5, 4)))
+    >>> R = (2, ((None, 3), (1, None)))
+    >>> [power(W, 2), power(R, 0), entry_at(W, 10 ** 18, 0, 0) == 4 * 10 ** 18 - 18, led_often(W, (0, None), 2)]
+    [(2, ((6, -1), (-1, 8))), (2, ((0, None), (None, 0))), True, (6, -1)]
+    >>> [best_walk(W, 3, 0, 1), walk_holds(W, 3, 0, 1, (0, 0, 1, 1)), best_walk(R, 2, 0, 1), best_walk(R, 0, 1, 1)]
+    [(0, 1, 1, 1), False, None, (1,)]
+    >>> [beat(W, 0, 0), growth(W, 0, 0), beat(W, 0, 1), whole_beat(W), beat(R, 0, 1), growth(R, 0, 1), beat((1, ((None,),)), 0, 0)]
+    [(18, 1), ((4, 1),), (1, 1), (18, 1), (0, 2), (None, (2, 1)), (1, 1)]
+    >>> [first_at_least(W, 0, 0, 100), first_at_least(R, 0, 0, 5), first_at_least(R, 0, 1, 3), lasting(W, (0, 1), (0, 0)), lasting(W, (0, 0), (0, 1))]
+    [30, 4, 1, 9, None]
+    >>> beat((1, ((6,),)), 0, 0)
+    raises TooGreat(5)
+''',
+    "N5": r'''
+    >>> from ridgespans.boards import Board, KeptBoard
+    >>> from ridgespans.shells import Shell
+    >>> b = Board((2, ((0, 0), (0, 3))))
+    >>> [b.add((None, 4)), b.least(), b.news(), b.version, len(b), (0, 3) in b, b.has((2, 4)), b.below((5, 1)), str(b)]
+    [1, (2, ((None, 0), (0, 0))), (((0, 3),), ((None, 0),)), 1, 3, True, True, (1, 1), '2\n0 0\n0 3\n. 4']
+    >>> [b.drop(1), b.news(), b.shift(1, -1), b.lot, b.lay(0, 1), b.lot, b.least(), b.undo(), b.tidy(), b.lot, b.at(0)]
+    [2, ((), ()), 3, (2, ((0, 0), (None, 3))), 4, (2, ((0, 3), (None, 3))), (2, ((None, 0), (0, 3))), 3, 4, (2, ((None, 0), (0, 0))), (2, ((0, 0), (0, 3)))]
+    >>> b.batch((("drop", 0), ("drop", 5)))
+    raises Rejected(1)
+    >>> [b.batch((("shift", 0, 2), ("add", (1, 0)))), b.lot, b.version, b.undo(), b.redo()]
+    [5, (2, ((None, 2), (0, 0), (1, 0))), 5, 4, 5]
+    >>> k = KeptBoard((2, ((0, 0), (None, 2))))
+    >>> [k.add((1, 4)), k.shift(0, 5), k.drop(2), k.lot, k == Board((2, ((5, 5), (None, 2))))]
+    [1, 2, 3, (2, ((5, 5), (None, 2))), True]
+    >>> k.drop(0)
+    raises Changed((0, 0))
+    >>> s = Shell()
+    >>> [s.say("rows"), s.say("new 2"), s.say("add 0 0"), s.say("add . 4"), s.say("in 2 4"), s.say("below 5 1"), s.say("shifts 5 1"), s.say("least"), s.say("drop 7"), s.say("add 1"), s.say("undo"), s.say("lot")]
+    ['no board', 'ok', 'version 1', 'version 2', 'yes', '1 1', '1 -3', '. 0 / 0 0', 'no NoRow', 'what', 'version 1', '0 0']
+''',
 }
 
 

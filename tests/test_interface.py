@@ -8,6 +8,7 @@ import pathlib
 import unittest
 
 import ridgespans
+from ridgespans import boards
 
 FUNCTIONS = {
     "rows": {
@@ -63,10 +64,45 @@ FUNCTIONS = {
         "best_low": ["game"], "best_high": ["game"], "is_best_low": ["game", "value"],
         "is_best_high": ["game", "value"],
     },
+    "wishes": {
+        "highest_to": ["table", "wish"], "is_met": ["table", "wish"], "missed": ["table", "wish"],
+        "is_cover": ["table", "wish", "value"], "least_covers": ["table", "wish"], "least_to": ["table", "wish"],
+        "off": ["table", "wish"],
+    },
+    "beats": {
+        "power": ["table", "n"], "entry_at": ["table", "n", "line", "place"], "led_often": ["table", "side", "n"],
+        "best_walk": ["table", "n", "line", "place"], "walk_holds": ["table", "n", "line", "place", "value"],
+        "beat": ["table", "line", "place"], "growth": ["table", "line", "place"], "whole_beat": ["table"],
+        "first_at_least": ["table", "line", "place", "number"], "lasting": ["table", "one_entry", "other_entry"],
+    },
 }
 
-# What the language's rules let be imported from beside the package.
+METHODS = {
+    "boards": {
+        "Board": {
+            "__init__": ["value"], "__len__": [], "__getitem__": None, "__contains__": None, "__iter__": [],
+            "__str__": [], "__eq__": None, "least": [], "has": ["row"], "shifts": ["row"], "below": ["row"],
+            "cut": ["row"], "add": ["row"], "drop": ["index"], "put": ["index", "row"], "shift": ["index", "number"],
+            "lay": ["index", "other"], "tidy": [], "batch": ["edits"], "undo": [], "redo": [], "at": ["version"],
+            "news": [], "copy": [], "attempt": ["work"],
+        },
+        "KeptBoard": {"__init__": ["value"]},
+    },
+    "shells": {"Shell": {"__init__": [], "say": ["line"]}},
+}
+
+# What the language's rules let be imported from beside the package, be called and be used of Python's own.
 LIBRARY = {"math": {"gcd", "lcm", "isqrt"}}
+BUILTINS = set("""
+    len range enumerate zip min max sum abs sorted reversed int str bool list tuple dict set isinstance ord repr any all
+    divmod pow iter next map type super property Exception ValueError TypeError KeyError IndexError LookupError
+    ZeroDivisionError ArithmeticError OverflowError RuntimeError NotImplementedError StopIteration NotImplemented
+""".split())
+VALUE_METHODS = set("""
+    append clear copy count endswith extend find get index insert isalnum isalpha isdigit islower isspace isupper items
+    join keys ljust lower lstrip partition pop remove replace reverse rfind rjust rpartition rsplit rstrip setdefault
+    split splitlines startswith strip update upper values zfill bit_length isascii isdecimal removeprefix removesuffix
+""".split())
 
 FOLDER = pathlib.Path(ridgespans.__file__).parent
 
@@ -78,6 +114,21 @@ class Interface(unittest.TestCase):
             for function, arguments in functions.items():
                 with self.subTest(f"{name}.{function}"):
                     self.check_function(getattr(module, function), module, arguments)
+
+    def test_each_method_is_defined_in_its_class_with_its_arguments(self):
+        for name, classes in METHODS.items():
+            module = importlib.import_module(f"ridgespans.{name}")
+            for kind, methods in classes.items():
+                for method, arguments in methods.items():
+                    with self.subTest(f"{kind}.{method}"):
+                        function = vars(getattr(module, kind))[method]
+                        if arguments is not None:
+                            self.check_function(function, module, ["self", *arguments])
+
+    def test_lot_and_version_are_properties_of_boards(self):
+        for name in ("lot", "version"):
+            self.assertIsInstance(vars(boards.Board)[name], property)
+        self.assertTrue(issubclass(boards.KeptBoard, boards.Board))
 
     def check_function(self, function, module, arguments):
         self.assertEqual(function.__module__, module.__name__)
@@ -112,6 +163,27 @@ class Files(unittest.TestCase):
                 if isinstance(node, ast.FunctionDef):
                     self.assertLessEqual(node.end_lineno - node.lineno + 1, 40, node.name)
 
+    def test_builtins_and_methods_of_builtin_values(self):
+        for text in self.files():
+            tree = ast.parse(text)
+            names = {node.id for node in ast.walk(tree)
+                     if isinstance(node, ast.Name) and isinstance(node.ctx, ast.Load)}
+            self.assertLessEqual(names & set(dir(builtins)), BUILTINS)
+            own = {node.name for node in ast.walk(tree) if isinstance(node, ast.FunctionDef)}
+            own |= {method for classes in METHODS.values() for methods in classes.values() for method in methods}
+            called = {node.func.attr for node in ast.walk(tree)
+                      if isinstance(node, ast.Call) and isinstance(node.func, ast.Attribute)}
+            self.assertLessEqual(called, VALUE_METHODS | own)
+
+    def test_what_does_not_occur(self):
+        # With a class that has __eq__, even any and all take lists.
+        barred = (ast.GeneratorExp, ast.Global, ast.AsyncFunctionDef, ast.AnnAssign, ast.Lambda, ast.Yield, ast.SetComp)
+        for text in self.files():
+            for node in ast.walk(ast.parse(text)):
+                self.assertNotIsInstance(node, barred)
+            for line in text.split("\n"):
+                self.assertNotRegex(line, r"\b(register|mro|elements|open|input|law|Meta|metaclass)\b|\(type\)|\.sort\(")
+
     def test_imports_name_the_file_that_defines_the_name(self):
         for text in self.files():
             for node in ast.walk(ast.parse(text)):
@@ -139,7 +211,7 @@ class Files(unittest.TestCase):
             taken |= {node.name for node in tree.body if isinstance(node, (ast.FunctionDef, ast.ClassDef))}
             local = {node.arg for node in ast.walk(tree) if isinstance(node, ast.arg)}
             for part in tree.body:
-                if isinstance(part, ast.FunctionDef):
+                if isinstance(part, (ast.FunctionDef, ast.ClassDef)):
                     local |= {node.id for node in ast.walk(part)
                               if isinstance(node, ast.Name) and isinstance(node.ctx, ast.Store)}
             self.assertEqual(local & taken, set())

@@ -18,7 +18,8 @@ SHARED = [((3, ((2, None, None), (None, None, 1), (None, 3, None))), (0,)),
           ((3, ((1, None, None), (None, None, 1), (None, 3, None))), (1, 2)),
           ((3, ((0, 3, None), (1, None, 5), (None, -1, 2))), (0, 1)),
           ((4, ((None, 0, 0, 0), (0, None, 0, 0), (0, 0, None, 0), (0, 0, 0, None))), (0, 1)),
-          ((4, ((None, 0, None, None), (None, None, 1, None), (2, None, None, None), (None, None, None, 1))), (0, 1, 2)),
+          ((4, ((None, 0, None, None), (None, None, 1, None), (2, None, None, None), (None, None, None, 1))),
+           (0, 1, 2)),
           ((4, ((0, None, None, None), (None, 1, None, None), (None, None, None, 1), (None, None, 1, None))), (1,))]
 TABLES = SQUARES + SMALL + KNOWN + [T, V] + [table for table, _ in SHARED]
 
@@ -122,7 +123,8 @@ class Rounds(unittest.TestCase):
     def test_lowest_terms(self):
         self.assertEqual(mean((2, ((None, 3), (3, None)))), (3, 1))
         self.assertEqual(mean((2, ((None, -3), (0, None)))), (-3, 2))
-        self.assertEqual(mean((4, ((None, 1, None, None), (None, None, 2, None), (None, None, None, 3), (0, None, None, None)))),
+        self.assertEqual(mean((4, ((None, 1, None, None), (None, None, 2, None), (None, None, None, 3),
+                                   (0, None, None, None)))),
                          (3, 2))
         self.assertEqual(mean((2, ((None, -3), (3, None)))), (0, 1))
 
@@ -202,7 +204,8 @@ class Ways(unittest.TestCase):
             self.assertEqual(ways(table, number), (4, awaited), table)
         chain = (4, ((None, 5, None, None), (None, None, 5, None), (None, None, None, 5), (None,) * 4))
         self.assertEqual(ways(chain, 1)[1][0], (0, 4, 8, 12))
-        self.assertEqual(ways(chain, 7)[1], ((0, -2, -4, -6), (None, 0, -2, -4), (None, None, 0, -2), (None,) * 3 + (0,)))
+        self.assertEqual(ways(chain, 7)[1], ((0, -2, -4, -6), (None, 0, -2, -4), (None, None, 0, -2),
+                                             (None,) * 3 + (0,)))
 
     def test_at_the_mean_and_just_below_it(self):
         self.assertEqual(ways(T, 2), (2, ((0, 1), (-2, 0))))

@@ -31,7 +31,8 @@ def spoilt(value):
 
 
 def spoilt_tuples(items):
-    yield from (list(items), (), items + items, items + (None,), items + (0,), (0,) + items, items[::-1], dict(enumerate(items)))
+    yield from (list(items), (), items + items, items + (None,), items + (0,), (0,) + items, items[::-1],
+                dict(enumerate(items)))
     for at, item in enumerate(items):
         yield items[:at] + items[at + 1:]
         yield items[:at] + (item,) + items[at:]
