@@ -2,7 +2,7 @@
 
 from ridgespans.bounds import MAX_FEW
 from ridgespans.errors import NotIn, TooMany, Unfit
-from ridgespans.rows import ask_as_many, ascending, begun, has_integer, laid, shifted
+from ridgespans.rows import added, ask_as_many, ascending, begun, has_integer, laid, shifted
 
 
 def shifts_of(lot, row):
@@ -50,7 +50,7 @@ def joined(one, other):
 def within(one, other):
     """Return whether each row of the span of one is in that of other."""
     ask_as_many(one[0], other[0])
-    return all([is_in(other, row) for row in one[1]])
+    return not rows_beyond(one[1], other[1])
 
 
 def alike(one, other):
@@ -61,10 +61,8 @@ def alike(one, other):
 def parting(one, other):
     """Return the first row of the least lot of one that is not in the span of other, None if there is none."""
     ask_as_many(one[0], other[0])
-    for row in least_lot(one)[1]:
-        if not is_in(other, row):
-            return row
-    return None
+    beyond = rows_beyond(least_lot(one)[1], other[1])
+    return beyond[0] if beyond else None
 
 
 def spread(one_row, other_row):
@@ -152,9 +150,49 @@ def begin_behind(chosen):
 
 def without_needless(rows):
     """Return the begun rows, each once, without those that are needless."""
-    enough = []
-    for row in list({row: True for row in rows}):
-        if not is_made_of(enough, row):
-            enough.append(row)
-    # A row that was needed when it came may be made of later ones.
-    return [row for row in enough if not is_made_of([other for other in enough if other != row], row)]
+    unlike = list({row: True for row in rows})
+    touching = touching_rows(unlike)
+    # A row that no other one touches at some place is needed, and all rows are made of those that are.
+    return [row for index, row in enumerate(unlike) if 1 << index in touching[index]]
+
+
+def rows_beyond(rows, others):
+    """Return the list of those of the rows that are not in the span of the others."""
+    touching = touching_rows([*others, *rows])[len(others):]
+    bits = (1 << len(others)) - 1
+    return [row for row, found in zip(rows, touching) if not all([one & bits for one in found])]
+
+
+def touching_rows(rows):
+    """Return for each row the list of bits, one for each of its integers, of the rows that come up to it there.
+
+    A row stands as the bit of its index, so that many rows are looked at by one step: each row by itself
+    beside each other one takes too long where there are many.
+    """
+    found = [[] for _ in rows]
+    for place in range(len(rows[0]) if rows else 0):
+        standing = [index for index, row in enumerate(rows) if row[place] is not None]
+        for index, bits in zip(standing, bits_touching([rows[index] for index in standing], standing, place)):
+            found[index].append(bits)
+    return found
+
+
+def bits_touching(rows, indices, place):
+    """Return for each of the rows, which have integers at the place, the bits of those that come up to it there."""
+    bits = [sum([1 << index for index in indices])] * len(rows)
+    for other in range(len(rows[0]) if rows else 0):
+        if other != place:
+            # Shifted up to one another at the place, a row must be at most the other one at all others.
+            numbers = [None if row[other] is None else row[other] - row[place] for row in rows]
+            bits = [one & two for one, two in zip(bits, bits_at_most(numbers, indices))]
+    return bits
+
+
+def bits_at_most(numbers, indices):
+    """Return for each of the numbers the bits of the indices of all that are at most this one."""
+    bits = sum([1 << index for number, index in zip(numbers, indices) if number is None])
+    found = {None: bits}
+    for number, index in sorted([pair for pair in zip(numbers, indices) if pair[0] is not None]):
+        bits |= 1 << index
+        found[number] = bits
+    return [found[number] for number in numbers]

