@@ -26,7 +26,8 @@ UNEVEN = [(3, ((None, 5, None), (-5, None, None), (None, 0, 0))),
           (4, ((None, 1, None, None), (1, None, -5, None), (None, None, None, 2), (None, None, -1, None))),
           (4, ((None, 1, None, None), (None, None, 1, None), (None, None, None, 1), (-2, None, None, None))),
           (4, ((None, 0, None, None), (None, None, 0, None), (None, 5, None, 0), (None, None, None, None))),
-          (4, ((-1, 0, None, None), (None, None, 3, None), (None, -3, None, 0), (None, None, None, 1)))]
+          (4, ((-1, 0, None, None), (None, None, 3, None), (None, -3, None, 0), (None, None, None, 1))),
+          (4, ((None, 1, None, None), (None, None, 1, None), (1, None, None, None), (0, 0, None, None)))]
 LOOPLESS = [(1, ((None,),)), (2, ((None, 3), (None, None))), (4, ((None,) * 4,) * 4),
             (4, ((None, 1, 5, None), (None, None, 1, -2), (None, None, None, 3), (None,) * 4))]
 TABLES = [Dice(seed).table(places, places, bound, nones) for seed, (places, bound, nones) in enumerate(

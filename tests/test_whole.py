@@ -197,6 +197,25 @@ class Conventions(unittest.TestCase):
         for name in MODULES:
             self.assertEqual(importlib.import_module(f"ridgespans.{name}").__name__, f"ridgespans.{name}")
 
+    def test_somewhat_beyond_the_bounds(self):
+        for seed in range(20):
+            dice = Dice(seed)
+            table = dice.table(5, 5, 3, (0, 0.4)[seed % 2])
+            self.assertIs(prices_hold(table, prices(table)) and standing_holds(table, standing(table)), True)
+            even, odd = even_odd(table)
+            self.assertIs(balance_holds(table, balance(table)), even == odd)
+            self.assertIs(props_hold(table, (9, 2), props(table, (9, 2))), True)
+            self.assertTrue(all(rests(table, number)[1] for number in rest_numbers(table)))
+            left, right = dice.table(5, 7, 3, 0.5), dice.table(5, 7, 3, 0.5)
+            self.assertIs(plan_holds(left, right, plan(left, right)), True)
+            self.assertTrue(all(solves(left, right, row) for row in solutions(left, right)[1]))
+            start, each = beat(table, 0, 4)
+            numbers = [entry_at(table, start + 10 ** 6 + by * each, 0, 4) for by in range(3)]
+            self.assertTrue(numbers == [None] * 3 or numbers[2] - numbers[1] == numbers[1] - numbers[0])
+            game = dice.table(4, 4, 30, 0), dice.table(4, 4, 30, 0)
+            if seed < 1:
+                self.assertEqual(mean_from(game, best_low(game), best_high(game)), worths(game))
+
     def test_what_comes_of_shifting_and_laying_is_in_the_span(self):
         lot = (3, ((0, 2, None), (0, 0, 0), (None, 1, 3)))
         for numbers in itertools.product((None, -1, 0, 2), repeat=3):
