@@ -162,6 +162,7 @@ class Board:
 class KeptBoard(Board):
     """A board whose span stays."""
 
+    # The document lists the class with this argument; what it lists stands in the class itself.
     def __init__(self, value):
         super().__init__(value)
 
