@@ -104,12 +104,12 @@ def answer(board, word, items):
         case "rows":
             return str(len(board))
         case "in":
-            return "yes" if board.has(*items) else "no"
+            return "yes" if board.has(items[0]) else "no"
         case "below":
-            below = board.below(*items)
+            below = board.below(items[0])
             return "none" if below is None else row_text(below)
         case "shifts":
-            return row_text(board.shifts(*items)) or "none"
+            return row_text(board.shifts(items[0])) or "none"
     return f"version {changed(board, word, items)}"
 
 
@@ -117,15 +117,15 @@ def changed(board, word, items):
     """Let the board do what the word tells, and return the version."""
     match word:
         case "add":
-            return board.add(*items)
+            return board.add(items[0])
         case "drop":
-            return board.drop(*items)
+            return board.drop(items[0])
         case "put":
-            return board.put(*items)
+            return board.put(items[0], items[1])
         case "shift":
-            return board.shift(*items)
+            return board.shift(items[0], items[1])
         case "lay":
-            return board.lay(*items)
+            return board.lay(items[0], items[1])
         case "tidy":
             return board.tidy()
         case "undo":

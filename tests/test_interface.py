@@ -175,6 +175,16 @@ class Files(unittest.TestCase):
                       if isinstance(node, ast.Call) and isinstance(node.func, ast.Attribute)}
             self.assertLessEqual(called, VALUE_METHODS | own)
 
+    def test_a_star_stands_in_no_call_of_a_name_that_builtin_values_have(self):
+        kinds = (str, bytes, int, list, tuple, dict, set, frozenset)
+        of_values = {name for kind in kinds for name in dir(kind) if not name.startswith("__")}
+        for text in self.files():
+            for node in ast.walk(ast.parse(text)):
+                if isinstance(node, ast.Call) and isinstance(node.func, ast.Attribute):
+                    stars = [part for part in node.args if isinstance(part, ast.Starred)]
+                    stars += [part for part in node.keywords if part.arg is None]
+                    self.assertFalse(stars and node.func.attr in of_values, (node.func.attr, node.lineno))
+
     def test_what_does_not_occur(self):
         # With a class that has __eq__, even any and all take lists.
         barred = (ast.GeneratorExp, ast.Global, ast.AsyncFunctionDef, ast.AnnAssign, ast.Lambda, ast.Yield, ast.SetComp)

@@ -61,6 +61,32 @@ class Words(unittest.TestCase):
                    ("lot", "0 7"), ("undo", "version 6"), ("undo", "version 5"), ("redo", "version 6"),
                    ("lot", ". 0 / 0 7"), ("rows", "2"), ("lay 1 1", "version 7"), ("redo", "no NothingToRedo"))
 
+    def test_adding_rows(self):
+        for places in (1, 2, 3, 4):
+            shell, rows = Shell(), []
+            self.check(shell, ("add" + " 0" * places, "no board"), (f"new {places}", "ok"))
+            for row in (("7",) * places, ("-3", ".", "0", "12")[:places], (".", ".", ".", "5")[4 - places:],
+                        (str(MOST), str(-MOST), ".", "1")[:places]):
+                line = "add " + " ".join(row)
+                rows.append(" ".join(row))
+                self.check(shell, (line + " 0", "what"), (line + " .", "what"), (line.rsplit(" ", 1)[0], "what"),
+                           ("add" + " ." * places, "no NotRow"), (line, f"version {len(rows)}"),
+                           ("rows", str(len(rows))), ("lot", " / ".join(rows)))
+            self.check(shell, ("add", "what"), ("add ", "what"), ("add" + " ." * (places + 1), "what"),
+                       ("add" + " ." * (places - 1), "what"), ("add" + " 0" * (places - 1) + " x", "what"),
+                       ("lot", " / ".join(rows)))
+
+    def test_adding_behind_forty_rows_and_forty_edits(self):
+        shell = shell_with(*["add . 1"] * 40)
+        for line, answer in (("add . .", "no NotRow"), ("add 0", "what"), ("add 0 0 0", "what"),
+                             ("add 0 0", "no TooMany")):
+            self.check(shell, (line, answer), ("rows", "40"), ("undo", "version 39"), ("redo", "version 40"))
+        shell = shell_with("add 0 0", *["shift 0 1"] * 39)
+        for line, answer in (("add . .", "no NotRow"), ("add 0", "what"), ("add 0 0 0", "what"),
+                             ("add 0 0", "no TooManyEdits")):
+            self.check(shell, (line, answer), ("lot", "39 39"), ("undo", "version 39"), ("redo", "version 40"))
+        self.check(shell, ("undo", "version 39"), ("add . 1", "version 40"), ("lot", "38 38 / . 1"))
+
     def test_what_is_asked(self):
         self.check(shell_with("add 0 0", "add 0 3", "add 2 4"), ("lot", "0 0 / 0 3 / 2 4"), ("least", "0 0 / 0 3"),
                    ("rows", "3"), ("in 5 7", "yes"), ("in 5 9", "no"), ("in . 0", "no"), ("below 5 9", "5 8"),
