@@ -5,30 +5,32 @@ from math import lcm
 from ridgespans.bounds import MAX_BEAT
 from ridgespans.errors import TooGreat
 from ridgespans.quotients import fraction_of
-from ridgespans.rows import are_indices, ask_square, greatest, greatest_sum, integers_of, is_above, led, unit_side
+from ridgespans.rows import are_indices, ask_square, greatest, greatest_sum, integers_of, is_above, led, shifted
+from ridgespans.rows import unit_side
 from ridgespans.spans import integer_places
 
 
 def power(table, n):
     """Return the power n of the table."""
     ask_square(table)
-    found = (table[0], tuple([unit_side(table[0], place) for place in range(table[0])]))
-    twice, left = table, n
-    while left > 0:
-        if left % 2 == 1:
-            found = product_of(found, twice)
-        twice, left = product_of(twice, twice), left // 2
+    parts = parts_of(table, n)
+    found = parts[0]
+    for part in parts[1:]:
+        found = product_of(part, found)
     return found
 
 
 def entry_at(table, n, line, place):
     """Return what stands in the line at the place of the power n."""
-    return power(table, n)[1][line][place]
+    return led_often(table, unit_side(table[0], place), n)[line]
 
 
 def led_often(table, side, n):
     """Return the side to which the power n leads the side."""
-    return led(power(table, n), side)
+    ask_square(table)
+    for part in parts_of(table, n):
+        side = led(part, side)
+    return side
 
 
 def best_walk(table, n, line, place):
@@ -108,10 +110,55 @@ def ask_beat(table):
             raise TooGreat(MAX_BEAT)
 
 
+def parts_of(table, n):
+    """Return some tables that lead as the power n does, one behind the other."""
+    turn = turn_of(table[0])
+    if n < 4 * turn:
+        return [power_by_halves(table, n)]
+    # There is a best walk of n steps that does nothing but rounds of one loop from two turns behind
+    # its start to two turns ahead of its end. For take the loops that a best walk is made of, and of
+    # these the one with the greatest mean, of c steps: some places - 1 loops join all of its places,
+    # and of each c others some have a multiple of c steps together, for which rounds of that one may
+    # stand. What remains beside the rounds has at most 2 * places * (places - 1) steps, and a turn
+    # is a multiple of places and of places - 1. So between, the best way of a turn back to the same
+    # place, again and again, is as good.
+    whole = power_by_halves(table, turn)
+    return [power_by_halves(table, n % turn), whole, gone_round(whole, n // turn - 4), whole, whole]
+
+
+def power_by_halves(table, n):
+    """Return the power n of the table, made of that of half as many steps."""
+    if n < 2:
+        return table if n == 1 else unit_table(table[0])
+    half = power_by_halves(table, n // 2)
+    even = product_of(half, half)
+    return product_of(even, table) if n % 2 == 1 else even
+
+
+def gone_round(table, times):
+    """Return the table that first goes so many times from each place back to it, then as the table."""
+    places, lines = table
+    sums = [None if line[place] is None else times * line[place] for place, line in enumerate(lines)]
+    return (places, tuple([shifted(line, number) for line, number in zip(lines, sums)]))
+
+
 def product_of(one, other):
     """Return the table of the greatest sums of a step by the one table and a step by the other one."""
     columns = [tuple([line[place] for line in other[1]]) for place in range(other[0])]
     return (other[0], tuple([tuple([greatest_sum(line, column) for column in columns]) for line in one[1]]))
+
+
+def turn_of(places):
+    """Return the least number of steps that is a multiple of each number of places up to so many."""
+    turn = 1
+    for each in range(1, places + 1):
+        turn = lcm(turn, each)
+    return turn
+
+
+def unit_table(places):
+    """Return the power 0 of the tables of so many places."""
+    return (places, tuple([unit_side(places, place) for place in range(places)]))
 
 
 def sums_to(table, n, place):
@@ -152,9 +199,7 @@ def entry_of(table, line, place):
 
 def entries_to(table, place):
     """Return the list of the entries of all lines at the place."""
-    turn = 1
-    for each in range(1, table[0] + 1):
-        turn = lcm(turn, each)
+    turn = turn_of(table[0])
     far, sums = turn, sums_to(table, 5 * turn, place)
     while not goes_round(table, sums, far, turn):
         go_on(sums, table, far)

@@ -134,7 +134,9 @@ def is_above(one, other):
 
 def greatest_sum(one_side, other_side):
     """Return the greatest of the sums of both sides, place by place."""
-    return greatest([added(one, other) for one, other in zip(one_side, other_side)])
+    # In one go, since products of tables come here again and again.
+    return max([one + other for one, other in zip(one_side, other_side) if one is not None and other is not None],
+               default=None)
 
 
 def is_any_side(places, value):
